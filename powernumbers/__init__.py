@@ -1,0 +1,1 @@
+"""Numbers that are powers."""

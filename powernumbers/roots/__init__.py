@@ -1,0 +1,1 @@
+"""Exact roots, and the ways in which a number is a power."""
