@@ -85,6 +85,12 @@ class TestLanguage(unittest.TestCase):
                 self.assertIsInstance(node.right, ast.Constant, (path, node.lineno))
                 self.assertIn(node.right.value, range(65), (path, node.lineno))
 
+    def test_what_is_iterated_at_once_is_not_handed_back(self):
+        names = {"range", "zip", "enumerate", "reversed", "map", "pairwise", "chain", "accumulate", "islice"}
+        for path, node in nodes_of(ast.Return):
+            if isinstance(node.value, ast.Call) and isinstance(node.value.func, ast.Name):
+                self.assertNotIn(node.value.func.id, names, (path, node.lineno))
+
     def test_no_sign_for_per_cent_in_strings(self):
         for path, node in nodes_of(ast.Constant):
             if isinstance(node.value, str):

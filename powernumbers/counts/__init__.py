@@ -1,0 +1,1 @@
+"""How many powers there are, and powers by their number."""

@@ -1,0 +1,1 @@
+"""Two powers and more: their differences and their sums."""
