@@ -68,6 +68,17 @@ class TestLanguage(unittest.TestCase):
                     self.assertIn(alias.name, LIBRARY[node.module], path)
                     self.assertIsNone(alias.asname, path)
 
+    def test_no_two_files_import_from_each_other(self):
+        needs = {}
+        for path, node in nodes_of(ast.ImportFrom):
+            needs.setdefault(path, set()).add(PACKAGE.parent.joinpath(*node.module.split(".")).with_suffix(".py"))
+        # What imports nothing that is left goes, round by round; a ring would stay.
+        while needs:
+            done = [path for path in needs if not needs[path] & set(needs)]
+            self.assertTrue(done, needs)
+            for path in done:
+                del needs[path]
+
     def test_no_other_builtins(self):
         for path, node in nodes_of(ast.Name):
             if node.id in PYTHONS_OWN and path.name != "__main__.py":

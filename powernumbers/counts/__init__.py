@@ -1,1 +1,1 @@
-"""How many powers there are, and powers by their number."""
+"""How many powers there are, powers by their number, their rests and their kin."""

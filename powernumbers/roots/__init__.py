@@ -1,1 +1,1 @@
-"""Exact roots, and the ways in which a number is a power."""
+"""Exact roots, primes, and the ways in which a number is a power."""

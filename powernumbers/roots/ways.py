@@ -1,8 +1,7 @@
 """Whether a number is a power, and in which ways."""
 
-from math import isqrt
-
 from powernumbers.roots.exact import root_of, taken
+from powernumbers.roots.primes import next_prime
 
 
 def is_power(number):
@@ -33,19 +32,5 @@ def greatest_way(number):
             base = root
             greatest = greatest * prime
         else:
-            prime = _next_prime(prime)
+            prime = next_prime(prime)
     return base, greatest
-
-
-def _next_prime(number):
-    following = number + 1
-    while not _is_prime(following):
-        following += 1
-    return following
-
-
-def _is_prime(number):
-    for divisor in range(2, isqrt(number) + 1):
-        if number % divisor == 0:
-            return False
-    return True
